@@ -1,0 +1,129 @@
+"""The rules of LANGUAGE.md that a short test can see."""
+
+import ast
+import builtins
+import re
+import unittest
+from pathlib import Path
+
+FOLDER = Path(__file__).resolve().parent.parent / "growingrecords"
+FILES = sorted(FOLDER.glob("*.py"))
+
+BUILTINS = """len range enumerate zip min max sum abs sorted reversed int str bool list tuple dict set frozenset isinstance ord
+    repr any all divmod pow getattr hasattr setattr super property staticmethod classmethod iter next map
+    Exception ValueError TypeError KeyError IndexError LookupError ZeroDivisionError ArithmeticError OverflowError RuntimeError
+    NotImplementedError AttributeError StopIteration NotImplemented""".split()
+
+METHODS = """append clear copy count endswith extend find get index insert isalnum isalpha isdigit islower isspace isupper items join
+    keys ljust lower lstrip partition pop remove replace reverse rfind rjust rpartition rsplit rstrip setdefault split splitlines
+    startswith strip update upper values zfill bit_length add discard __init__""".split()
+
+NOWHERE = "register mro elements open input law version_info with_traceback add_note".split()
+WORDS = """type typing typing_extensions enum Enum IntEnum StrEnum Flag IntFlag Generic Protocol ABC ABCMeta namedtuple NamedTuple
+    TypedDict TYPE_CHECKING abstractmethod""".split()
+BARRED = (ast.Global, ast.AsyncFunctionDef, ast.AsyncFor, ast.AsyncWith, ast.Await, ast.GeneratorExp, ast.Import, ast.Div)
+
+
+def own(tree, kind):
+    return [node for node in ast.walk(tree) if isinstance(node, kind)]
+
+
+def bound_names(tree):
+    """The names that a file gives a meaning: variables, parameters, functions and classes."""
+    names = [node.id for node in own(tree, ast.Name) if isinstance(node.ctx, ast.Store)]
+    names += [node.arg for node in own(tree, ast.arg)]
+    return names + [node.name for node in own(tree, (ast.FunctionDef, ast.ClassDef))]
+
+
+class TestLanguage(unittest.TestCase):
+
+    def setUp(self):
+        self.trees = {path.name: ast.parse(path.read_text()) for path in FILES}
+
+    def test_files(self):
+        for path in FOLDER.iterdir():
+            self.assertTrue(path.name == "__pycache__" or re.fullmatch(r"[a-z_]+\.py", path.name), path)
+        for path in FILES:
+            text = path.read_text()
+            self.assertRegex(text, r"\A[ -~\n]*\Z")
+            self.assertNotIn("%", text)
+            self.assertLess(len(text.splitlines()), 400, path)
+            self.assertLessEqual(max(len(line) for line in text.splitlines()), 120, path)
+
+    def test_functions_are_short(self):
+        for name, tree in self.trees.items():
+            for node in own(tree, ast.FunctionDef):
+                self.assertLessEqual(node.end_lineno - node.lineno + 1, 40, (name, node.name))
+
+    def test_imports(self):
+        needed = {}
+        for name, tree in self.trees.items():
+            modules = [node.module for node in own(tree, ast.ImportFrom)]
+            for module in modules:
+                self.assertRegex(module, r"\Agrowingrecords\.[a-z]+\Z")
+            needed[name[:-3]] = {module.split(".")[1] for module in modules}
+            for node in own(tree, ast.ImportFrom):
+                there = self.trees[node.module.split(".")[1] + ".py"]
+                for alias in node.names:
+                    self.assertIn(alias.name, bound_names(there))
+                    self.assertIsNone(alias.asname)
+        while needed:
+            free = [name for name, others in needed.items() if not others & set(needed)]
+            self.assertTrue(free, needed)
+            needed = {name: others for name, others in needed.items() if name not in free}
+
+    def test_statements_and_expressions(self):
+        for name, tree in self.trees.items():
+            self.assertEqual(own(tree, BARRED), [], name)
+
+    def test_is_stands_before_constants_only(self):
+        for name, tree in self.trees.items():
+            for node in own(tree, ast.Compare):
+                for sign, side in zip(node.ops, node.comparators):
+                    if isinstance(sign, (ast.Is, ast.IsNot)):
+                        self.assertIn(getattr(side, "value", 0), (None, True, False), (name, node.lineno))
+
+    def test_builtins(self):
+        for name, tree in self.trees.items():
+            bound = bound_names(tree) + [alias.name for node in own(tree, ast.ImportFrom) for alias in node.names]
+            methods = [node.name for group in own(tree, ast.ClassDef) for node in group.body if isinstance(node, ast.FunctionDef)]
+            self.assertEqual([word for word in bound if hasattr(builtins, word) and word not in methods], [], name)
+            used = {node.id for node in own(tree, ast.Name) if isinstance(node.ctx, ast.Load)} - set(bound)
+            self.assertEqual(used - set(BUILTINS), set(), name)
+
+    def test_attributes_are_assigned_somewhere(self):
+        assigned = set(METHODS)
+        for tree in self.trees.values():
+            assigned |= {node.attr for node in own(tree, ast.Attribute) if isinstance(node.ctx, ast.Store)}
+            for group in own(tree, ast.ClassDef):
+                assigned |= {node.name for node in group.body if isinstance(node, ast.FunctionDef)}
+                assigned |= {node.targets[0].id for node in group.body if isinstance(node, ast.Assign)}
+        for name, tree in self.trees.items():
+            read = {node.attr for node in own(tree, ast.Attribute)}
+            self.assertEqual(read - assigned, set(), name)
+
+    def test_methods_and_attributes_have_different_names(self):
+        methods, attributes = set(), set()
+        for tree in self.trees.values():
+            attributes |= {node.attr for node in own(tree, ast.Attribute) if isinstance(node.ctx, ast.Store)}
+            for group in own(tree, ast.ClassDef):
+                methods |= {node.name for node in group.body if isinstance(node, ast.FunctionDef)}
+        self.assertEqual(methods & attributes, set())
+
+    def test_words_that_are_not_used(self):
+        for path in FILES:
+            code = re.sub(r'"""(.|\n)*?"""|#.*', "", path.read_text())
+            self.assertEqual([word for word in WORDS + NOWHERE if re.search(rf"\b{word}\b", code)], [], path)
+
+    def test_sorting_takes_plain_strings(self):
+        """Records have an order that is none for sorting, so what is sorted must plainly be something else."""
+        for name, tree in self.trees.items():
+            for node in own(tree, ast.Call):
+                if isinstance(node.func, ast.Name) and node.func.id in ("sorted", "min", "max"):
+                    told = node.args[0]
+                    plain = isinstance(told, ast.ListComp) and isinstance(told.elt, ast.Call) and told.elt.func.id in ("str", "len", "int")
+                    self.assertTrue(plain or len(node.args) == 2, (name, node.lineno))
+
+
+if __name__ == "__main__":
+    unittest.main()
