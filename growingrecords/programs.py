@@ -16,6 +16,8 @@ class Program:
         self.names = tuple([function.name for function in functions])
         self.mentioned = mentioned
         self._functions = {function.name: function for function in functions}
+        # What was found out of the functions, by their names; kept here so that it is found out once.
+        self.explored = {}
 
     @staticmethod
     def read(text):

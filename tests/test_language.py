@@ -18,6 +18,7 @@ METHODS = """append clear copy count endswith extend find get index insert isaln
     keys ljust lower lstrip partition pop remove replace reverse rfind rjust rpartition rsplit rstrip setdefault split splitlines
     startswith strip update upper values zfill bit_length add discard __init__""".split()
 
+CHANGING = "append clear extend insert pop remove reverse setdefault update sort add discard".split()
 NOWHERE = "register mro elements open input law version_info with_traceback add_note".split()
 WORDS = """type typing typing_extensions enum Enum IntEnum StrEnum Flag IntFlag Generic Protocol ABC ABCMeta namedtuple NamedTuple
     TypedDict TYPE_CHECKING abstractmethod""".split()
@@ -32,7 +33,44 @@ def bound_names(tree):
     """The names that a file gives a meaning: variables, parameters, functions and classes."""
     names = [node.id for node in own(tree, ast.Name) if isinstance(node.ctx, ast.Store)]
     names += [node.arg for node in own(tree, ast.arg)]
+    names += [node.name for node in own(tree, ast.ExceptHandler) if node.name]
     return names + [node.name for node in own(tree, (ast.FunctionDef, ast.ClassDef))]
+
+
+def is_operator(function):
+    """True if the function is an operator, a property or the like, which may not change anything."""
+    marks = [node.id for node in function.decorator_list if isinstance(node, ast.Name)]
+    return "property" in marks or (function.name.startswith("__") and function.name != "__init__")
+
+
+def is_new(value):
+    """True if the value of an assignment is a list, dict or set that it makes."""
+    if isinstance(value, ast.Call):
+        return isinstance(value.func, ast.Name) and value.func.id in ("list", "dict", "set", "sorted")
+    made = (ast.List, ast.Dict, ast.Set, ast.ListComp, ast.DictComp, ast.SetComp)
+    return isinstance(value, made) or (isinstance(value, ast.Subscript) and isinstance(value.slice, ast.Slice))
+
+
+def foreign_changes(function):
+    """The lines in which a function changes what it has not made."""
+    assigned = {}
+    for node in own(function, ast.Assign):
+        for target in node.targets:
+            if isinstance(target, ast.Name):
+                assigned.setdefault(target.id, []).append(is_new(node.value))
+    safe = [name for name, kinds in assigned.items() if all(kinds)]
+    if function.name == "__init__":
+        safe.append("self")
+    lines = []
+    for node in ast.walk(function):
+        if isinstance(node, (ast.Attribute, ast.Subscript)) and not isinstance(node.ctx, ast.Load):
+            lines += [node.lineno] * (getattr(node.value, "id", None) not in safe)
+        elif isinstance(node, ast.Call) and isinstance(node.func, ast.Attribute) and node.func.attr in CHANGING:
+            lines += [node.lineno] * (getattr(node.func.value, "id", None) not in safe)
+        elif isinstance(node, ast.AugAssign):
+            plain = isinstance(node.target, ast.Name) and isinstance(getattr(node.value, "value", None), int)
+            lines += [node.lineno] * (not plain)
+    return lines
 
 
 class TestLanguage(unittest.TestCase):
@@ -109,6 +147,38 @@ class TestLanguage(unittest.TestCase):
             for group in own(tree, ast.ClassDef):
                 methods |= {node.name for node in group.body if isinstance(node, ast.FunctionDef)}
         self.assertEqual(methods & attributes, set())
+
+    def test_local_names_are_no_imports_and_no_classes(self):
+        for name, tree in self.trees.items():
+            taken = {alias.name for node in own(tree, ast.ImportFrom) for alias in node.names}
+            taken |= {node.name for node in own(tree, ast.ClassDef)}
+            for function in own(tree, ast.FunctionDef):
+                self.assertEqual(taken & (set(bound_names(function)) - {function.name}), set(), (name, function.name))
+
+    def test_operators_and_properties_change_nothing(self):
+        """What they run assigns and modifies only what it has made itself."""
+        functions, begun = {}, []
+        for tree in self.trees.values():
+            for node in own(tree, (ast.FunctionDef, ast.ClassDef)):
+                functions.setdefault(node.name, []).append(node)
+                if isinstance(node, ast.FunctionDef) and is_operator(node):
+                    begun.append(node)
+        seen = []
+        while begun:
+            node = begun.pop()
+            if node in seen:
+                continue
+            seen.append(node)
+            if isinstance(node, ast.ClassDef):
+                begun.extend(inner for inner in node.body if getattr(inner, "name", "") == "__init__")
+                continue
+            self.assertEqual(foreign_changes(node), [], node.name)
+            for call in own(node, ast.Call):
+                called = call.func.id if isinstance(call.func, ast.Name) else call.func.attr
+                begun.extend(functions.get(called, []))
+        names = {node.name for node in seen}
+        self.assertLessEqual({"refined", "forked_by_others", "widened", "question_holds", "value_at", "is_empty"}, names)
+        self.assertEqual(names & {"evaluate", "endings", "smallest_member", "note_row"}, set())
 
     def test_words_that_are_not_used(self):
         for path in FILES:
