@@ -108,7 +108,7 @@ def refined(cell, others):
         if known[-1] is None and alike == len(facts):
             continue
         facts = list(other.facts[:alike])
-        known = known[:alike + 1]
+        known = list(known[:alike + 1])
         while known[-1] is not None and len(facts) < len(other.facts):
             facts.append(other.facts[len(facts)])
             known.append(learned(known[-1], facts[-1]))

@@ -47,8 +47,8 @@ def is_new(value):
     """True if the value of an assignment is a list, dict or set that it makes."""
     if isinstance(value, ast.Call):
         return isinstance(value.func, ast.Name) and value.func.id in ("list", "dict", "set", "sorted")
-    made = (ast.List, ast.Dict, ast.Set, ast.ListComp, ast.DictComp, ast.SetComp)
-    return isinstance(value, made) or (isinstance(value, ast.Subscript) and isinstance(value.slice, ast.Slice))
+    # No slice: where a class has `__getitem__`, square brackets may give what somebody else holds.
+    return isinstance(value, (ast.List, ast.Dict, ast.Set, ast.ListComp, ast.DictComp, ast.SetComp))
 
 
 def foreign_changes(function):
