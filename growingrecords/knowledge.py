@@ -120,7 +120,8 @@ def widened(table, paths):
 
 def parted(table, paths, ways):
     """The rows of a table that lie in none of the ways, and those that lie in one, two tuples."""
-    places = [table.places.index(path) for path in paths]
+    found = {path: place for place, path in enumerate(table.places)}
+    places = [found[path] for path in paths]
     wanted = {way: True for way in ways}
     no = []
     yes = []

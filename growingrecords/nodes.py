@@ -17,11 +17,11 @@ class Function:
 
 
 class Parameter:
-    """A parameter. These nodes stand first in each function: their indexes are those of the parameters."""
+    """A parameter. These nodes stand first in each function, in the order of the parameters: `place` counts from 0."""
 
-    def __init__(self, name, index):
+    def __init__(self, name, place):
         self.name = name
-        self.index = index
+        self.place = place
 
 
 class Number:

@@ -32,7 +32,7 @@ def node_weight(node, weights, bodies, nothing):
     """The weight of a node, given those of the nodes before it."""
     match node:
         case Parameter():
-            return raised(nothing, 1 + node.index, 1)
+            return raised(nothing, 1 + node.place, 1)
         case Variable():
             return weights[node.definition]
         case Call():

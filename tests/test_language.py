@@ -155,8 +155,8 @@ class TestLanguage(unittest.TestCase):
             for function in own(tree, ast.FunctionDef):
                 self.assertEqual(taken & (set(bound_names(function)) - {function.name}), set(), (name, function.name))
 
-    def test_operators_and_properties_change_nothing(self):
-        """What they run assigns and modifies only what it has made itself."""
+    def run_by_operators(self):
+        """The functions that operators, properties and the like run, themselves included."""
         functions, begun = {}, []
         for tree in self.trees.values():
             for node in own(tree, (ast.FunctionDef, ast.ClassDef)):
@@ -172,13 +172,29 @@ class TestLanguage(unittest.TestCase):
             if isinstance(node, ast.ClassDef):
                 begun.extend(inner for inner in node.body if getattr(inner, "name", "") == "__init__")
                 continue
-            self.assertEqual(foreign_changes(node), [], node.name)
             for call in own(node, ast.Call):
                 called = call.func.id if isinstance(call.func, ast.Name) else call.func.attr
                 begun.extend(functions.get(called, []))
-        names = {node.name for node in seen}
+        return [node for node in seen if isinstance(node, ast.FunctionDef)]
+
+    def test_operators_and_properties_change_nothing(self):
+        """What they run assigns and modifies only what it has made itself."""
+        found = self.run_by_operators()
+        for node in found:
+            self.assertEqual(foreign_changes(node), [], node.name)
+        names = {node.name for node in found}
         self.assertLessEqual({"refined", "forked_by_others", "widened", "question_holds", "value_at", "is_empty"}, names)
         self.assertEqual(names & {"evaluate", "endings", "smallest_member", "note_row"}, set())
+
+    def test_operators_and_properties_call_nothing_that_is_held(self):
+        """No attribute has the name of a method that they call, so that it plainly is one of a builtin value."""
+        called = set()
+        for node in self.run_by_operators():
+            called |= {call.func.attr for call in own(node, ast.Call) if isinstance(call.func, ast.Attribute)}
+        attributes = {node.attr for tree in self.trees.values() for node in own(tree, ast.Attribute) if isinstance(node.ctx, ast.Store)}
+        self.assertIn("append", called)
+        self.assertIn("count", attributes)
+        self.assertEqual(called & attributes, set())
 
     def test_words_that_are_not_used(self):
         for path in FILES:
