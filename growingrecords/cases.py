@@ -2,7 +2,7 @@
 
 from growingrecords.arguments import check_count, facts_hold
 from growingrecords.exploring import endings
-from growingrecords.knowledge import smallest_member
+from growingrecords.members import smallest_member
 from growingrecords.residuals import residual
 
 

@@ -114,18 +114,24 @@ def next_decisions(decisions):
 
 def endings(program, name):
     """The endings of all cases of a function, in the order of the cases, a tuple."""
+    return endings_among(program, name, program.mentioned)
+
+
+def endings_among(program, name, mentioned):
+    """The endings of all cases if these names are mentioned, which are those of the program and perhaps more."""
     # A program never changes, so what was found out of a function is kept.
-    if name not in program.explored:
-        program.explored[name] = explored_endings(program, name)
-    return program.explored[name]
+    key = (name, mentioned)
+    if key not in program.explored:
+        program.explored[key] = explored_endings(program, name, mentioned)
+    return program.explored[key]
 
 
-def explored_endings(program, name):
+def explored_endings(program, name, mentioned):
     """The endings of all cases of a function, found by running it."""
     found = []
     decisions = []
     while decisions is not None:
-        guide = Explorer(name, program.mentioned, decisions)
+        guide = Explorer(name, mentioned, decisions)
         ended = ended_run(program, name, guide)
         facts = tuple([(one.question, one.answer) for one in guide.decisions if one.question is not None])
         found.append(Ending(facts, guide.known_so_far(), ended))

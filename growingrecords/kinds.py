@@ -3,7 +3,8 @@
 from growingrecords.arguments import facts_hold
 from growingrecords.errors import Mismatch, NoBranch
 from growingrecords.exploring import endings
-from growingrecords.knowledge import learned, nothing_known, smallest_member
+from growingrecords.knowledge import meetings, nothing_known
+from growingrecords.members import smallest_member
 from growingrecords.nodes import Choice
 
 
@@ -99,31 +100,10 @@ def refined(cell, others):
     """The pairs of a cell and each of the others with which it has a member in common."""
     told = {fact: True for fact in cell.facts}
     found = []
-    # The facts of the other that was looked at last, as far as they can be, and what is known before
-    # them and behind each of them. Most of this serves for the next one, too.
-    facts = []
-    known = [cell.known]
-    for other in others:
-        alike = common_length(facts, other.facts)
-        if known[-1] is None and alike == len(facts):
-            continue
-        facts = list(other.facts[:alike])
-        known = list(known[:alike + 1])
-        while known[-1] is not None and len(facts) < len(other.facts):
-            facts.append(other.facts[len(facts)])
-            known.append(learned(known[-1], facts[-1]))
-        if known[-1] is not None:
-            new = [fact for fact in other.facts if fact not in told]
-            found.append(Pair((*cell.facts, *new), known[-1], cell.inside, other.inside))
+    for other, known in meetings(cell.known, others):
+        new = [fact for fact in other.facts if fact not in told]
+        found.append(Pair((*cell.facts, *new), known, cell.inside, other.inside))
     return found
-
-
-def common_length(first, second):
-    """How many members two rows have in common at their beginnings."""
-    length = 0
-    while length < len(first) and length < len(second) and first[length] == second[length]:
-        length += 1
-    return length
 
 
 def united_functions(first, second):

@@ -5,12 +5,6 @@ records and which are not, for each name that the program mentions how it can li
 and the same for all names that it does not mention. Nothing here is changed after it was made.
 """
 
-from growingrecords.records import Record
-from growingrecords.tokens import LETTERS
-
-# No program mentions a name of so many letters.
-STRANGE = "unmentioned"
-
 
 class Table:
     """All ways in which a name can lie at some places; the places are paths of records."""
@@ -55,6 +49,35 @@ def learned(known, fact):
     question, answer = fact
     no, yes = forked(known, question)
     return yes if answer else no
+
+
+def meetings(known, others):
+    """Those of the others whose facts go with what is known: pairs of them and of what is known then."""
+    found = []
+    # The facts of the other that was looked at last, as far as they can be, and what is known before
+    # them and behind each of them. Most of this serves for the next one, too.
+    facts = []
+    levels = [known]
+    for other in others:
+        alike = common_length(facts, other.facts)
+        if levels[-1] is None and alike == len(facts):
+            continue
+        facts = list(other.facts[:alike])
+        levels = list(levels[:alike + 1])
+        while levels[-1] is not None and len(facts) < len(other.facts):
+            facts.append(other.facts[len(facts)])
+            levels.append(learned(levels[-1], facts[-1]))
+        if levels[-1] is not None:
+            found.append((other, levels[-1]))
+    return found
+
+
+def common_length(first, second):
+    """How many members two rows have in common at their beginnings."""
+    length = 0
+    while length < len(first) and length < len(second) and first[length] == second[length]:
+        length += 1
+    return length
 
 
 def forked_by_record(known, path):
@@ -137,44 +160,3 @@ def can_lie(table, paths, ways):
     """True if a name with this table can lie in one of the ways, otherwise False."""
     _, yes = parted(table, paths, ways)
     return len(yes) > 0
-
-
-def smallest_member(known, count):
-    """So many arguments of which all that is known is true, a tuple.
-
-    They have the fewest fields, if at most one name that is not mentioned must be there.
-    """
-    names = {}
-    for name, table in known.tables.items():
-        if name is not None:
-            note_row(names, name, table.places, table.rows)
-    for index, (paths, ways) in enumerate(known.demands):
-        table = known.tables[None]
-        _, yes = parted(table, paths, ways)
-        note_row(names, strange_name(index), table.places, yes)
-    return tuple([member_value((index,), known.records, names) for index in range(count)])
-
-
-def note_row(names, name, places, rows):
-    """Adds a name to those of the records that have it in the way with the fewest fields."""
-    best = rows[0]
-    for row in rows:
-        if row.count(True) < best.count(True):
-            best = row
-    for place, has in zip(places, best):
-        if has:
-            names.setdefault(place, []).append(name)
-
-
-def strange_name(index):
-    """A name that no program mentions, another one for each index."""
-    high, low = divmod(index, len(LETTERS))
-    return STRANGE + LETTERS[low] + LETTERS[-1] * high
-
-
-def member_value(path, records, names):
-    """The value at a path, given which values are records and what names these have."""
-    if path not in records or not records[path]:
-        return 0
-    fields = names[path] if path in names else []
-    return Record({name: member_value((*path, name), records, names) for name in fields})

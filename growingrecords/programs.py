@@ -16,7 +16,7 @@ class Program:
         self.names = tuple([function.name for function in functions])
         self.mentioned = mentioned
         self._functions = {function.name: function for function in functions}
-        # What was found out of the functions, by their names; kept here so that it is found out once.
+        # What was found out of the functions, by their names and the mentioned ones; kept so that it is found out once.
         self.explored = {}
 
     @staticmethod

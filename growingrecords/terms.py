@@ -142,29 +142,58 @@ def all_ways(count):
 def shared_ways(left, right, name, paths):
     """All ways to lie at the paths with which the name is in both records, in ascending order, a tuple."""
     ways = all_ways(len(paths))
-    masks = {}
-    for place, path in enumerate(paths):
-        masks[path] = sum([1 << index for index, way in enumerate(ways) if way[place]])
+    masks = row_masks(paths, ways)
     everywhere = (1 << len(ways)) - 1
-    both = name_mask(left, name, masks, everywhere) & name_mask(right, name, masks, everywhere)
-    return tuple([way for index, way in enumerate(ways) if (both >> index) & 1 == 1])
+    both = has_mask(field_masks(left, name, masks, everywhere)) & has_mask(field_masks(right, name, masks, everywhere))
+    return rows_of(ways, both)
 
 
-def name_mask(term, name, masks, everywhere):
-    """The ways in which the record has the name, as the bits of a number; `masks` tells them for each path."""
+def row_masks(places, rows):
+    """For each place the rows in which a name is there, as the bits of a number."""
+    masks = {}
+    for place, path in enumerate(places):
+        masks[path] = sum([1 << index for index, row in enumerate(rows) if row[place]])
+    return masks
+
+
+def rows_of(rows, mask):
+    """The rows that are bits of a number, a tuple."""
+    return tuple([row for index, row in enumerate(rows) if (mask >> index) & 1 == 1])
+
+
+def field_masks(term, name, masks, everywhere):
+    """What a field of a record can be: pairs of the rows with which it is so, as the bits of a number, and a term.
+
+    `masks` tells for each path the rows with which the name is there, `everywhere` has all rows.
+    """
     match term:
         case Given():
-            return masks[term.path]
+            return [(masks[term.path], Given((*term.path, name)))]
         case Braces():
-            return everywhere if name in term.fields else 0
+            return [(everywhere, term.fields[name])] if name in term.fields else []
         case Changed():
             told = told_by_step(term, name)
             if told is None:
-                return name_mask(term.before, name, masks, everywhere)
-            return everywhere if told else 0
+                return field_masks(term.before, name, masks, everywhere)
+            return [(everywhere, term.part)] if told else []
         case _:
-            left = name_mask(term.left, name, masks, everywhere)
-            right = name_mask(term.right, name, masks, everywhere)
-            if term.sign in ("|", "+"):
-                return left | right
-            return left & right if term.sign == "&" else left & (everywhere ^ right)
+            return joined_field_masks(term, name, masks, everywhere)
+
+
+def joined_field_masks(join, name, masks, everywhere):
+    """What a field of what was made of two records can be."""
+    rights = field_masks(join.right, name, masks, everywhere)
+    right = has_mask(rights)
+    stays = right if join.sign == "&" else everywhere ^ right
+    found = [(mask & stays, part) for mask, part in field_masks(join.left, name, masks, everywhere)]
+    if join.sign in ("|", "+"):
+        found.extend(rights)
+    return found
+
+
+def has_mask(found):
+    """The rows with which a record has a field that can be what was found, as the bits of a number."""
+    mask = 0
+    for part_mask, _ in found:
+        mask = mask | part_mask
+    return mask

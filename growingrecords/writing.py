@@ -8,7 +8,12 @@ def function_text(function):
     texts = []
     for node in function.nodes:
         texts.append(node_text(node, function.nodes, texts))
-    return f"def {call_text(function.name, function.parameter_names)} = {texts[function.body]}"
+    return definition_text(function, texts[function.body])
+
+
+def definition_text(function, body):
+    """The line of a function with this text as its body."""
+    return f"def {call_text(function.name, function.parameter_names)} = {body}"
 
 
 def node_text(node, nodes, texts):

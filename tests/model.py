@@ -393,11 +393,12 @@ class TooMany(Exception):
     """There are too many worlds to go through all of them."""
 
 
-def worlds(asking, most, strange=1):
+def worlds(asking, most, strange=1, every=False):
     """All worlds of arguments that some functions, with equal numbers of parameters, can tell apart.
 
     `asking` are pairs of a runner and the name of a function. Which values must vary is found out by
-    running the functions: as long as runs ask about more values and names, these are varied, too.
+    running the functions: as long as runs ask about more values and names, these are varied, too. If `every`
+    is true, all mentioned names and some others vary in each record that is asked about.
     """
     count = len(asking[0][0].functions[asking[0][1]][0])
     asked = {}
@@ -407,15 +408,16 @@ def worlds(asking, most, strange=1):
         for runner, name in asking:
             for world in found:
                 runner.run(name, world)
-                note_questions(runner, asked, strange)
+                note_questions(runner, asked, strange, every)
         if asked == before:
             return found
 
 
-def note_questions(runner, asked, strange):
+def note_questions(runner, asked, strange, every):
     for question, _ in runner.asked:
         if question[0] == "record":
-            asked.setdefault(question[1], set())
+            names = [*runner.mentioned, *others(runner.mentioned, strange)] if every else []
+            asked.setdefault(question[1], set()).update(names)
         elif question[0] == "has":
             asked[question[1]].add(question[2])
         else:
@@ -438,6 +440,17 @@ def world_list(count, asked, most):
         return list(product(*choices))
 
     return combined([values((index,)) for index in range(count)])
+
+
+def distinct(plain, taken=None):
+    """The same with integers of which no two are equal and none stands in a program."""
+    taken = [] if taken is None else taken
+    if isinstance(plain, tuple):
+        return tuple(distinct(value, taken) for value in plain)
+    if isinstance(plain, dict):
+        return {name: distinct(value, taken) for name, value in plain.items()}
+    taken.append(plain)
+    return -len(taken)
 
 
 class Group:

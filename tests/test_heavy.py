@@ -4,9 +4,13 @@ import time
 import unittest
 
 from growingrecords.cases import case_of, cases
+from growingrecords.comparing import alike, parting, refines
+from growingrecords.completing import completed
 from growingrecords.errors import TooLarge
 from growingrecords.kinds import failing, going, taking
+from growingrecords.libraries import Library
 from growingrecords.programs import Program
+from growingrecords.reports import failures, table
 from growingrecords.running import outcome
 from growingrecords.ways import why
 from tests.samples import record
@@ -82,6 +86,75 @@ class TestHeavy(unittest.TestCase):
             for kind in (one | two, one & two, one - two):
                 self.assertIs(kind.member() in kind if kind else True, True)
             self.assertIs(one & two <= one, True)
+
+    def compare(self, first, second, parameters="p, q, r, s"):
+        """Whether two bodies are alike, and whether the second one refines the first one; None for what is too large."""
+        program = Program.read(f"def f({parameters}) = {first}\ndef g({parameters}) = {second}")
+        answers = []
+        for call in (alike, refines, parting):
+            try:
+                answers.append(call(program, "f", "g"))
+            except TooLarge as error:
+                self.assertEqual(error.name, "f")
+                answers.append(None)
+        return answers[:2]
+
+    def test_comparing_functions_with_few_cases_and_paths(self):
+        six = "(p | q | r | s | p.a | q.a)"
+        self.assertEqual(self.compare(f"{six} - {six}", "{} & " + six), [True, True])
+        self.assertEqual(self.compare(f"({six} - r) | ({six} & r)", f"let x = {six} in (x & r) | (x - r)"), [True, True])
+        self.assertEqual(self.compare(f"({six} - r) | ({six} & s)", f"let x = {six} in (x & s) | (x - s)"), [False, False])
+        inner, other = "p", "p"
+        for name in EIGHT[:6]:
+            inner = f"({{{name}: {inner}}} & (q | r | s)) | p"
+            other = f"({{{name}: {other}}} & (s | (r | q))) | (p - {{}})"
+        self.assertEqual(self.compare(inner, other), [True, True])
+        self.assertEqual(self.compare(inner, other.replace("{a: p}", "{a: q}")), [False, False])
+        nested = "{a: " * 38 + "p | q" + "}" * 38
+        self.assertEqual(self.compare(nested, nested.replace("p | q", "p | q | {}")), [True, True])
+        self.assertEqual(self.compare(nested, nested.replace("p | q", "q | p")), [False, False])
+        self.assertEqual(self.compare("p" + PLUSSES, PLUSSES[3:] + " + p"), [True, True])
+
+    def test_comparing_functions_with_many_cases(self):
+        tests = ["".join(f"let x = if {one} has {name} then 1 else 2 in " for name in EIGHT[:7]) for one in "pq"]
+        both = "let y = p | q in "
+        for first, second in ((tests[0] + "p | q", tests[0] + "p | q | {}"), (tests[0] + "p | q", tests[1] + "(p | q) | {}"),
+                              (tests[0] + "q | p", tests[0] + "q | p[drop a]")):
+            equal = second.endswith("{}")
+            self.assertIn(self.compare(both + first, both + second, "p, q"), [[equal, equal], [None, None]])
+        twenty = " | ".join(f"{one}.{name}" for name in "abcde" for one in "pqrs")
+        self.assertIn(self.compare(twenty, twenty + " | {}"), [[True, True], [None, None]])
+        self.assertIn(self.compare(twenty, twenty.replace("p.a | q.a", "q.a | p.a")), [[False, False], [None, None]])
+        chains = "let x = p" + ".a" * 25 + " in q" + ".a" * 25, "let x = q" + ".a" * 25 + " in q" + ".a" * 25
+        self.assertIn(self.compare(*chains), [[False, True], [None, True], [None, None]])
+
+    def test_completing_and_reporting(self):
+        tests = "".join(f"let x = if p has {name} then 1 else 2 in " for name in EIGHT[:6])
+        program = body("let x = (p - q - s) + (r - p.g) in " + tests + "p")
+        names = [first + second for first in "abcdefghijklmno" for second in "abcdefghijklmnopqrst"]
+        large = record(dict.fromkeys(names, 1))
+        found = completed(program, "f", large, record({}), large, record({}))
+        self.assertEqual(sum(value.size for value in found), 901)
+        self.assertEqual(table(program, "f")[-1], "goes well: 1")
+        for text in (DEEP, RENAMES, "p" + "[rename a to a]" * 4, "p" + ".a" * 30 + PLUSSES[:60]):
+            program = body(text, "p")
+            self.assertEqual(len(table(program, "f")), len(failures(program, "f")) + 1)
+            found = completed(program, "f", record({}))
+            self.assertEqual(outcome(program, "f", *found)[0], "value")
+
+    def test_a_library_of_twenty_functions(self):
+        lines = ["def fa(p, q) = p + q"]
+        for before, letter in zip("abcdefghijklmnopqrs", "bcdefghijklmnopqrst"):
+            lines.append(f"def f{letter}(p, q) = if p has a then f{'a' if letter > 'i' else before}(p, q) else p | q")
+        library = Library("\n".join(lines))
+        self.assertEqual(len(library.program.names), 20)
+        for name in library.program.names[:9]:
+            library.replace(name, "p | q")
+        self.assertEqual(library.replace_all(*[(name, "q | (p - q)") for name in library.program.names[:9]]), 9)
+        for _ in range(10):
+            self.assertTrue(library.undo())
+        self.assertFalse(library.undo())
+        self.assertEqual(library.program.written(), "\n".join(lines))
 
     def test_large_arguments(self):
         names = [first + second for first in "abcdefghijklmno" for second in "abcdefghijklmnopqrst"]

@@ -174,7 +174,9 @@ class TestLanguage(unittest.TestCase):
                 continue
             for call in own(node, ast.Call):
                 called = call.func.id if isinstance(call.func, ast.Name) else call.func.attr
-                begun.extend(functions.get(called, []))
+                # Only error classes use `super()`, and above them is none of the package that does anything.
+                if not isinstance(getattr(call.func, "value", None), ast.Call):
+                    begun.extend(functions.get(called, []))
         return [node for node in seen if isinstance(node, ast.FunctionDef)]
 
     def test_operators_and_properties_change_nothing(self):
