@@ -12,7 +12,7 @@ FEW_PATHS = 6
 
 
 class Contest:
-    """Two functions that are compared: their endings, and how many parameters they have."""
+    """Two functions that are compared: the number of their parameters, their endings, and a search for other values."""
 
     def __init__(self, count, firsts, seconds, search):
         self.count = count
